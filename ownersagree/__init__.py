@@ -1,0 +1,1 @@
+"""Which copied columns agree after every history of calls."""

@@ -1,0 +1,21 @@
+"""The words that all texts of the package are made of (point 3)."""
+
+LETTERS = "abcdefghijklmnopqrstuvwxyz"
+LETTERS_AND_DIGITS = "abcdefghijklmnopqrstuvwxyz0123456789"
+LONGEST_NAME = 12
+LONGEST_VALUE = 20
+
+
+def is_value(word):
+    """Tells whether a string is a value."""
+    return 1 <= len(word) <= LONGEST_VALUE and all([sign in LETTERS_AND_DIGITS for sign in word])
+
+
+def is_name(word):
+    """Tells whether a string is a name."""
+    return is_value(word) and len(word) <= LONGEST_NAME and word[0] in LETTERS
+
+
+def is_constant(word):
+    """Tells whether a string is a constant: a value between single quotes."""
+    return word.startswith("'") and word.endswith("'") and is_value(word[1:-1])
