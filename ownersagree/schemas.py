@@ -1,23 +1,19 @@
 """Schemas: the tables, their columns and their references (points 5 to 11)."""
 
 from ownersagree.errors import BadLine, DuplicateName, TooMany, UnknownName
-from ownersagree.texts import is_name
-
-
-def _are_names(words):
-    return all([is_name(word) for word in words])
+from ownersagree.texts import are_names, is_name
 
 
 def _has_form(words):
     """Tells whether the words of a line have one of the four forms of point 7."""
     if words[0] == "root":
-        return len(words) >= 3 and _are_names(words[1:])
+        return len(words) >= 3 and are_names(words[1:])
     if words[0] == "table":
-        return len(words) >= 4 and _are_names(words[1:])
+        return len(words) >= 4 and are_names(words[1:])
     if words[0] == "owner":
-        return len(words) == 3 and is_name(words[1]) and _are_names(words[2].split("."))
+        return len(words) == 3 and is_name(words[1]) and are_names(words[2].split("."))
     if words[0] == "follow":
-        return len(words) == 4 and _are_names(words[1:])
+        return len(words) == 4 and are_names(words[1:])
     return False
 
 

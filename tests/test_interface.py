@@ -1,37 +1,100 @@
 """The interface: what is defined in which module, and in the body of which class."""
 
+import inspect
 import unittest
 
-from ownersagree import errors, patterns, schemas
+from ownersagree import bases, errors, handlers, patterns, questions, schemas, systems
+from tests.helpers import system, teams
 
 ERRORS = [
     "AgreeError", "BadLine", "DuplicateName", "UnknownName", "WrongTable", "WrongCount", "TooMany", "BadPattern",
     "ConstantsMeet", "OtherPlaces", "OtherSchema", "BadValue", "NoRow", "Refused", "Broken", "BadCase",
     "TooManyPatterns", "BadDerivation", "NotReachable", "TooLong", "NotComparable", "BadOffer",
 ]
-SCHEMA_METHODS = [
-    "read", "tables", "columns", "parent_of", "chain_of", "positions", "owner_of", "follows", "__eq__",
-]
-PATTERN_METHODS = [
-    "blocks", "__str__", "__len__", "__contains__", "__eq__", "__le__", "__and__", "__or__",
-]
+# The methods that stand in the body of each class.
+METHODS = {
+    schemas.Schema: ["read", "tables", "columns", "parent_of", "chain_of", "positions", "owner_of", "follows",
+                     "__eq__"],
+    patterns.Pattern: ["blocks", "__str__", "__len__", "__contains__", "__eq__", "__le__", "__and__", "__or__"],
+    handlers.Handler: ["read", "row_parameters", "value_parameters", "needs", "deeds", "__call__"],
+    systems.System: ["of", "names", "constants", "__getitem__", "__contains__", "__len__"],
+    questions.Question: ["read", "row_parameters", "value_parameters", "found", "conditions"],
+    bases.Base: ["run", "call", "run_all", "trial", "touched", "ask", "put", "numbers", "pattern_of", "depth_of",
+                 "broken", "__getitem__", "__contains__", "__len__"],
+    bases.Row: ["move", "parent", "chain", "__getitem__", "__setitem__"],
+    bases.Trial: ["__enter__", "__exit__"],
+}
+# The arguments of functions that are listed, without the object itself.
+ARGUMENTS = {
+    handlers.Handler.read: "(schema, text)",
+    handlers.Handler.__call__: "(base, me, rows, values)",
+    systems.System: "(schema, handlers)",
+    systems.System.of: "(schema, *handlers)",
+    questions.Question.read: "(schema, text)",
+    bases.Base: "(system, *, watch=())",
+    bases.Base.run: "(call)",
+    bases.Base.call: "(name, me, *rows, **values)",
+    bases.Base.run_all: "(calls, *, keep=True)",
+    bases.Base.trial: "()",
+    bases.Base.touched: "(call)",
+    bases.Base.ask: "(question, me, rows, values)",
+    bases.Base.put: "(table, parent, values)",
+    bases.Base.numbers: "(table)",
+    bases.Base.pattern_of: "(table, number)",
+    bases.Base.depth_of: "(table, number)",
+    bases.Base.broken: "(agreements)",
+    bases.Row.move: "(number)",
+}
 
 
 class InterfaceTest(unittest.TestCase):
     def test_each_class_is_defined_in_its_module(self):
-        listed = [(errors, name) for name in ERRORS] + [(schemas, "Schema"), (patterns, "Pattern")]
-        for module, name in listed:
-            with self.subTest(name=name):
-                self.assertEqual(getattr(module, name).__module__, module.__name__)
+        for name in ERRORS:
+            self.assertEqual(getattr(errors, name).__module__, "ownersagree.errors")
+        modules = [schemas, patterns, handlers, systems, questions, bases, bases, bases]
+        for owner, module in zip(METHODS, modules):
+            with self.subTest(name=owner.__name__):
+                self.assertEqual(owner.__module__, module.__name__)
 
     def test_each_method_stands_in_its_class(self):
-        for owner, names in [(schemas.Schema, SCHEMA_METHODS), (patterns.Pattern, PATTERN_METHODS)]:
+        for owner, names in METHODS.items():
             for name in names:
                 with self.subTest(owner=owner.__name__, name=name):
                     self.assertIn(name, vars(owner))
 
-    def test_read_is_a_static_method(self):
-        self.assertIsInstance(vars(schemas.Schema)["read"], staticmethod)
+    def test_static_methods(self):
+        for owner, name in [(schemas.Schema, "read"), (handlers.Handler, "read"), (questions.Question, "read"),
+                            (systems.System, "of")]:
+            self.assertIsInstance(vars(owner)[name], staticmethod)
+
+    def test_properties(self):
+        self.assertIsNotNone(bases.Row.parent.fset)
+        self.assertIsNone(bases.Row.chain.fset)
+
+    def test_arguments(self):
+        for function, wanted in ARGUMENTS.items():
+            with self.subTest(function=function):
+                found = str(inspect.signature(function)).replace("(self, ", "(").replace("(self)", "()")
+                self.assertEqual(found, wanted)
+
+    def test_attributes_are_set_on_each_object(self):
+        schema, made = teams(), system(("handler h",))
+        base = bases.Base(made)
+        base.put("note", None, ["a"])
+        objects = [
+            (schema, ["text"]), (made, ["schema"]),
+            (handlers.Handler.read(schema, "handler h"), ["name", "text", "schema"]),
+            (questions.Question.read(schema, "question q\nfind n in note"), ["name", "text", "schema"]),
+            (base, ["system"]), (base["note", 1], ["table", "number"]), (base.trial(), ["keep"]),
+        ]
+        for thing, names in objects:
+            for name in names:
+                self.assertIn(name, vars(thing))
+
+    def test_class_values(self):
+        found = [vars(handlers.Handler)[name] for name in ("MOST_ROWS", "MOST_VALUES", "MOST_NEEDS", "MOST_DEEDS")]
+        self.assertEqual(found, [3, 4, 8, 8])
+        self.assertEqual(vars(systems.System)["MOST_HANDLERS"], 16)
 
 
 if __name__ == "__main__":

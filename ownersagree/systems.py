@@ -1,0 +1,57 @@
+"""Systems: a schema and the handlers over it (point 21)."""
+
+from ownersagree.errors import DuplicateName, OtherSchema, TooMany, UnknownName
+from ownersagree.texts import is_constant
+
+
+def _constants_of(handler):
+    """Returns the constants of a handler, in its guards and in what it writes."""
+    terms = [term for pair in handler.needs() for term in pair]
+    terms = terms + [term for deed in handler.parsed_deeds() for term in deed.terms]
+    return [term for term in terms if is_constant(term)]
+
+
+class System:
+    """A schema and a list of handlers over it."""
+
+    MOST_HANDLERS = 16
+
+    def __init__(self, schema, handlers):
+        if len(handlers) > System.MOST_HANDLERS:
+            raise TooMany(0)
+        self.schema = schema
+        self._handlers = {}
+        for handler in handlers:
+            if handler.schema.text != schema.text:
+                raise OtherSchema()
+            if handler.name in self._handlers:
+                raise DuplicateName(0, handler.name)
+            self._handlers[handler.name] = handler
+        self._constants = sorted(set([str(term) for handler in handlers for term in _constants_of(handler)]))
+
+    @staticmethod
+    def of(schema, *handlers):
+        """Returns the system of a schema and any number of handlers."""
+        return System(schema, handlers)
+
+    def names(self):
+        """Returns the names of the handlers, in order."""
+        return list(self._handlers)
+
+    def constants(self):
+        """Returns the constants that occur in the handlers, each once, in ascending order."""
+        return list(self._constants)
+
+    def __getitem__(self, name):
+        if name not in self.names():
+            raise UnknownName(0, name)
+        return self._handlers[name]
+
+    def __contains__(self, x):
+        return x in self.names()
+
+    def __len__(self):
+        return len(self._handlers)
+
+    def __iter__(self):
+        raise TypeError("a system is not iterated over: take its names()")
