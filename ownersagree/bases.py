@@ -109,7 +109,7 @@ class Base:
         """Executes a call, and returns the addresses of the rows that it has put in."""
         effect = self._effect_of(call)
         self._store = effect.after
-        return list(effect.made)
+        return effect.made
 
     def call(self, name, me, *rows, **values):
         """Does the same as run; the values are passed by the names of their parameters."""
@@ -178,8 +178,8 @@ class Base:
         constants = self.system.constants()
         blocks = {}
         for place in places:
-            constant = f"'{self._store.value_at((table, number), place)}'"
-            blocks.setdefault(constant, []).append(place)
+            value = self._store.value_at((table, number), place)
+            blocks.setdefault(f"'{value}'", []).append(place)
         return Pattern(places, [block + [constant] if constant in constants else block
                                 for constant, block in blocks.items()])
 

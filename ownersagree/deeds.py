@@ -21,7 +21,7 @@ class Deed:
 
 
 def _check_under(scope, line, table, under):
-    """Raises WrongTable if rows of the table do not lie directly under the row."""
+    """Raises UnknownName if there is no such row, and WrongTable if no row of the table can lie directly under it."""
     if scope.table_of_any(line, under) != scope.schema.parent_of(table):
         raise WrongTable(line, under)
 
@@ -50,7 +50,6 @@ def _read_new(scope, line, words):
 def _read_move(scope, line, words):
     name, under = words[1], words[3]
     table = scope.table_of(line, name)
-    scope.table_of_any(line, under)
     _check_under(scope, line, table, under)
     return Deed("move", name, table, under, None, [])
 

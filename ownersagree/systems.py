@@ -42,10 +42,10 @@ class System:
         """Returns the constants that occur in the handlers, each once, in ascending order."""
         return list(self._constants)
 
-    def __getitem__(self, name):
-        if name not in self.names():
-            raise UnknownName(0, name)
-        return self._handlers[name]
+    def __getitem__(self, at):
+        if at not in self.names():
+            raise UnknownName(0, at)
+        return self._handlers[at]
 
     def __contains__(self, x):
         return x in self.names()

@@ -537,7 +537,7 @@ class InterfaceTest(AgreeTestCase):
         self.assertIn(("remark", 1), self.base)
         for address in (("note", 1), ("note", 4), ("note", 0), ("note", -1), ("remark", 2), ("team", 1), ("nope", 1),
                         (2, "note"), ("note",), ("note", 2, 2), (), ("note", None), ("note", "2"), ("note", [2]),
-                        (["note"], 2), (None, None)):
+                        (["note"], 2), (None, None), ["note", 2], ("remark", True), None, "ab"):
             self.assertIs(False, address in self.base, address)
 
     def test_a_base_is_not_iterated_over(self):

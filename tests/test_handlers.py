@@ -181,7 +181,7 @@ class NamesTest(AgreeTestCase):
     def test_changing_a_returned_list_has_no_effect(self):
         found = handler(*ALL_FORMS)
         for method in (found.row_parameters, found.value_parameters, found.needs, found.deeds):
-            before = method()
+            before = list(method())
             method().clear()
             method().append("more")
             method().reverse()

@@ -91,7 +91,7 @@ class ReadTest(QuestionCase):
     def test_changing_a_returned_list_has_no_effect(self):
         question = self.read(*HEAD, "find n in task", "where n.owner = me")
         for method in (question.row_parameters, question.value_parameters, question.conditions):
-            before = method()
+            before = list(method())
             method().clear()
             method().append("more")
             self.assertEqual(method(), before)

@@ -35,7 +35,8 @@ class TextsTest(unittest.TestCase):
     def test_constants(self):
         for word in ["'a'", "'0'", "'open'", "'abcdefghij0123456789'"]:
             self.assertTrue(is_constant(word), word)
-        for word in ["", "'", "''", "'''", "a", "'a", "a'", "\"a\"", "''a''", "'a'b'", " 'a'", "'a' "]:
+        for word in ["", "'", "''", "'''", "a", "'a", "a'", "'ab", "ab'", "abc", "\"a\"", "''a''", "'a'b'", " 'a'",
+                     "'a' "]:
             self.assertFalse(is_constant(word), word)
         for word in STRANGE + ["abcdefghij01234567890"]:
             self.assertFalse(is_constant(f"'{word}'"), word)
