@@ -74,22 +74,28 @@ class Trial:
     """A block of statements after which the base can be as it was before."""
 
     def __init__(self, base):
-        self.keep = True
         self._base = base
         self._before = None
+        # __exit__ may only ask whether something is None, so None stands for a block that is kept.
+        self._dropped = None
+
+    @property
+    def keep(self):
+        """True if the base stays as it is at the end of the block, False if it will be as before."""
+        return self._dropped is None
+
+    @keep.setter
+    def keep(self, value):
+        self._dropped = None if value else True
 
     def __enter__(self):
         self._before = self._base._store
         return self
 
     def __exit__(self, kind, value, trace):
-        keep = self.keep
-        if kind is not None or not keep:
-            self._undo()
-
-    def _undo(self):
-        base = self._base
-        base._store = self._before
+        dropped = self._dropped
+        if kind is not None or dropped is not None:
+            self._base._store = self._before
 
 
 class Base:

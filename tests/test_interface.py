@@ -22,7 +22,7 @@ METHODS = {
     bases.Base: ["run", "call", "run_all", "trial", "touched", "ask", "put", "numbers", "pattern_of", "depth_of",
                  "broken", "__getitem__", "__contains__", "__len__"],
     bases.Row: ["move", "parent", "chain", "__getitem__", "__setitem__"],
-    bases.Trial: ["__enter__", "__exit__"],
+    bases.Trial: ["keep", "__enter__", "__exit__"],
 }
 # The arguments of functions that are listed, without the object itself.
 ARGUMENTS = {
@@ -70,6 +70,7 @@ class InterfaceTest(unittest.TestCase):
     def test_properties(self):
         self.assertIsNotNone(bases.Row.parent.fset)
         self.assertIsNone(bases.Row.chain.fset)
+        self.assertIsNotNone(bases.Trial.keep.fset)
 
     def test_arguments(self):
         for function, wanted in ARGUMENTS.items():
@@ -85,11 +86,12 @@ class InterfaceTest(unittest.TestCase):
             (schema, ["text"]), (made, ["schema"]),
             (handlers.Handler.read(schema, "handler h"), ["name", "text", "schema"]),
             (questions.Question.read(schema, "question q\nfind n in note"), ["name", "text", "schema"]),
-            (base, ["system"]), (base["note", 1], ["table", "number"]), (base.trial(), ["keep"]),
+            (base, ["system"]), (base["note", 1], ["table", "number"]),
         ]
         for thing, names in objects:
             for name in names:
                 self.assertIn(name, vars(thing))
+        self.assertIs(base.trial().keep, True)
 
     def test_class_values(self):
         found = [vars(handlers.Handler)[name] for name in ("MOST_ROWS", "MOST_VALUES", "MOST_NEEDS", "MOST_DEEDS")]

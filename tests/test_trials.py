@@ -116,6 +116,23 @@ class TrialTest(TrialCase):
             self.assertEqual(len(self.base), 4)
         self.assertEqual(state_of(self.base), self.before)
 
+    def test_keep_tells_what_was_set(self):
+        trial, other = self.base.trial(), self.base.trial()
+        for wanted in (False, True, False, False, True, True):
+            trial.keep = wanted
+            self.assertIs(trial.keep, wanted)
+            self.assertIs(other.keep, True)
+
+    def test_an_error_counts_whatever_keep_tells(self):
+        for kept in ([], [True], [False], [False, True], [True, False]):
+            with self.assertRaises(Stop):
+                with self.base.trial() as trial:
+                    self.change()
+                    for wanted in kept:
+                        trial.keep = wanted
+                    raise Stop()
+            self.check_before()
+
     def test_a_trial_without_a_name(self):
         with self.base.trial():
             self.base.call("note", "bob")
