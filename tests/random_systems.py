@@ -107,3 +107,40 @@ def random_arguments(chance, base, asked):
     if chance.random() < 0.03:
         me = chance.choice(["", None, "A", 3])
     return me, tuple(rows), tuple(values)
+
+
+def random_needs(chance, schema, text, many):
+    """Returns the text of a handler or a question with some more guards or conditions in their place."""
+    lines = text.split("\n")
+    word = "where" if lines[0].startswith("question ") else "need"
+    rows, values = [], []
+    for line in lines:
+        words = line.split(" ")
+        if words[0] in ("row", "find"):
+            rows.append((words[1], words[3]))
+        if words[0] == "value":
+            values.append(words[1])
+    behind = max(index for index, line in enumerate(lines)
+                 if line.split(" ")[0] in ("handler", "question", "row", "value", "find", "need", "where"))
+    pool = [f"{name}.{position}" for name, table in rows for position in schema.positions(table)] or ["me"]
+    more = [f"{word} {chance.choice(pool)} = {random_term(chance, schema, rows, values)}" for _ in range(many)]
+    return "\n".join(lines[:behind + 1] + more + lines[behind + 1:])
+
+
+def maker(chance, schema, table, name):
+    """Returns the text of a handler that puts a row into a table."""
+    parent = schema.parent_of(table)
+    rows = [] if parent is None else [("r0", parent)]
+    terms = " ".join(random_term(chance, schema, rows, ["v0", "v0"]) for _ in schema.columns(table))
+    under = "" if parent is None else " under r0"
+    lines = [f"handler {name}"] + [f"row r0 in {parent}" for _ in rows] + ["value v0"]
+    return "\n".join(lines + [f"new n0 in {table}{under} with {terms}"])
+
+
+def random_system_texts(chance, schema, extra):
+    """Returns the texts of handlers of which one puts rows into each table, and of some more."""
+    texts = [maker(chance, schema, table, f"m{index}") for index, table in enumerate(schema.tables())]
+    for index in range(extra):
+        text = random_handler(chance, schema, f"h{index}")
+        texts.append(random_needs(chance, schema, text, chance.choice([0, 0, 1, 2])))
+    return texts

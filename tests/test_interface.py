@@ -3,7 +3,8 @@
 import inspect
 import unittest
 
-from ownersagree import bases, errors, handlers, patterns, questions, schemas, systems
+from ownersagree import (agreements, bases, cases, errors, handlers, histories, patterns, questions, schemas, surveys,
+                         systems)
 from tests.helpers import system, teams
 
 ERRORS = [
@@ -23,6 +24,15 @@ METHODS = {
                  "broken", "__getitem__", "__contains__", "__len__"],
     bases.Row: ["move", "parent", "chain", "__getitem__", "__setitem__"],
     bases.Trial: ["keep", "__enter__", "__exit__"],
+    surveys.Survey: ["patterns", "depth_of", "able", "derivation", "listing", "__le__"],
+    agreements.Agreements: ["of", "pattern_of", "listed", "__contains__", "__len__", "__eq__", "__le__", "__and__"],
+}
+# The functions of each module.
+FUNCTIONS = {
+    cases: ["cases", "pieces", "step"],
+    surveys: ["survey"],
+    histories: ["check_derivation", "history", "first_gap"],
+    agreements: ["held", "kept"],
 }
 # The arguments of functions that are listed, without the object itself.
 ARGUMENTS = {
@@ -44,6 +54,23 @@ ARGUMENTS = {
     bases.Base.depth_of: "(table, number)",
     bases.Base.broken: "(agreements)",
     bases.Row.move: "(number)",
+    cases.cases: "(handler, table)",
+    cases.pieces: "(handler, table, case)",
+    cases.step: "(handler, table, case, patterns)",
+    surveys.survey: "(system)",
+    surveys.Survey.patterns: "(table, *, depth=None)",
+    surveys.Survey.depth_of: "(table, pattern)",
+    surveys.Survey.able: "(name)",
+    surveys.Survey.derivation: "(table, pattern)",
+    surveys.Survey.listing: "()",
+    histories.check_derivation: "(system, lines)",
+    histories.history: "(system, lines)",
+    histories.first_gap: "(system, lists)",
+    agreements.Agreements: "(schema, agreements)",
+    agreements.Agreements.of: "(schema, *agreements)",
+    agreements.Agreements.pattern_of: "(table)",
+    agreements.held: "(survey)",
+    agreements.kept: "(system, *, within=None)",
 }
 
 
@@ -51,10 +78,16 @@ class InterfaceTest(unittest.TestCase):
     def test_each_class_is_defined_in_its_module(self):
         for name in ERRORS:
             self.assertEqual(getattr(errors, name).__module__, "ownersagree.errors")
-        modules = [schemas, patterns, handlers, systems, questions, bases, bases, bases]
+        modules = [schemas, patterns, handlers, systems, questions, bases, bases, bases, surveys, agreements]
+        self.assertEqual(len(modules), len(METHODS))
         for owner, module in zip(METHODS, modules):
             with self.subTest(name=owner.__name__):
                 self.assertEqual(owner.__module__, module.__name__)
+
+    def test_each_function_is_defined_in_its_module(self):
+        for module, names in FUNCTIONS.items():
+            for name in names:
+                self.assertEqual(vars(module)[name].__module__, module.__name__)
 
     def test_each_method_stands_in_its_class(self):
         for owner, names in METHODS.items():
@@ -64,7 +97,7 @@ class InterfaceTest(unittest.TestCase):
 
     def test_static_methods(self):
         for owner, name in [(schemas.Schema, "read"), (handlers.Handler, "read"), (questions.Question, "read"),
-                            (systems.System, "of")]:
+                            (systems.System, "of"), (agreements.Agreements, "of")]:
             self.assertIsInstance(vars(owner)[name], staticmethod)
 
     def test_properties(self):
@@ -87,6 +120,7 @@ class InterfaceTest(unittest.TestCase):
             (handlers.Handler.read(schema, "handler h"), ["name", "text", "schema"]),
             (questions.Question.read(schema, "question q\nfind n in note"), ["name", "text", "schema"]),
             (base, ["system"]), (base["note", 1], ["table", "number"]),
+            (surveys.survey(made), ["system", "rounds"]), (agreements.Agreements(schema, []), ["schema"]),
         ]
         for thing, names in objects:
             for name in names:

@@ -1,0 +1,48 @@
+"""Systems that several tests need."""
+
+from ownersagree.handlers import Handler
+from ownersagree.schemas import Schema
+from ownersagree.systems import System
+
+PROJECTS = "root project owner\ntable task project owner\nowner task owner"
+START = "handler start\nnew p in project with me"
+PLAN = "handler plan\nrow p in project\nneed p.owner = me\nnew t in task under p with me"
+GIVE = "handler give\nrow p in project\nvalue u\nneed p.owner = me\nset p.owner = u\neach task below p sets owner = u"
+BAD_GIVE = "handler give\nrow p in project\nvalue u\nneed p.owner = me\nset p.owner = u"
+
+BOXES = "root box a b c\ntable link box x y"
+LEFT = "handler left\nvalue u\nvalue v\nnew n in box with u u v"
+RIGHT = "handler right\nvalue u\nvalue v\nnew n in box with u v v"
+COPY = "handler copy\nrow p in box\nneed p.a = p.c\nnew n in link under p with p.b p.a"
+
+
+def system_of(schema_text, *texts):
+    schema = Schema.read(schema_text)
+    return System(schema, [Handler.read(schema, text) for text in texts])
+
+
+def projects(give=GIVE):
+    """The system of point 67, with a good or a bad last handler."""
+    return system_of(PROJECTS, START, PLAN, give)
+
+
+def boxes():
+    """The system of point 68."""
+    return system_of(BOXES, LEFT, RIGHT, COPY)
+
+
+def grid(counts, *more, table="t"):
+    """A system over one table with a column for each count, which can have all combinations of so many constants.
+
+    The names of its handlers begin with the name of the table.
+    """
+    columns = [f"c{index}" for index in range(len(counts))]
+    return system_of(f"root {table} " + " ".join(columns), *grid_texts(counts, table), *more)
+
+
+def grid_texts(counts, table):
+    texts = [f"handler {table}start\nnew n in {table} with " + " ".join("'k0'" for _ in counts)]
+    for index, count in enumerate(counts):
+        for number in range(1, count):
+            texts.append(f"handler {table}{index}x{number}\nrow r in {table}\nset r.c{index} = 'k{number}'")
+    return texts
