@@ -14,7 +14,7 @@ def products(lists):
 
 
 def is_possible(pairs, apart, choice):
-    """Tells whether the spots of all pairs can be joined in a choice of marks, so that those of apart are not all joined.
+    """Tells whether the spots of pairs can be joined in a choice of marks while those of apart are not all joined.
 
     If apart is None, nothing must stay apart.
     """

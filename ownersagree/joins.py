@@ -52,7 +52,7 @@ def with_joined(marks, pairs):
 
 def position_at(tables, height, column):
     """Returns the position of a column of a row that stands some steps above the lowest row of a chain of tables."""
-    return ".".join([*tables[1:height + 1], column])
+    return ".".join(tables[1:height + 1] + [column])
 
 
 def follow_pairs(schema, table):

@@ -46,3 +46,20 @@ def grid_texts(counts, table):
         for number in range(1, count):
             texts.append(f"handler {table}{index}x{number}\nrow r in {table}\nset r.c{index} = 'k{number}'")
     return texts
+
+
+def ladder(steps):
+    """A system in which rows of two kinds climb together, until one of them goes on alone for some steps.
+
+    In the end its flag is no more its kind: this takes 95 + steps calls.
+    """
+    texts = ["handler make\nnew p in t with 'p' 'l0' 'p'\nnew q in t with 'q' 'l0' 'q'"]
+    kinds = "row r in t\nrow s in t\nneed r.kind = 'p'\nneed s.kind = 'q'"
+    for level in range(5):
+        texts.append(f"handler up{level}\n{kinds}\nneed r.level = 'l{level}'\nneed s.level = 'l{level}'\n"
+                     f"set r.level = 'l{level + 1}'\nset s.level = 'l{level + 1}'")
+    texts.append(f"handler meet\n{kinds}\nneed r.level = 'l5'\nneed s.level = 'l4'\nset r.level = 'm0'")
+    for step in range(steps):
+        flag = "\nset r.flag = 'z'" if step == steps - 1 else ""
+        texts.append(f"handler go{step}\nrow r in t\nneed r.level = 'm{step}'\nset r.level = 'm{step + 1}'{flag}")
+    return system_of("root t kind level flag\nowner t flag", *texts)

@@ -1,8 +1,12 @@
 """Random handlers, questions and calls over a few schemas."""
 
+import random
+
 from ownersagree.errors import AgreeError
 from ownersagree.handlers import Handler
 from ownersagree.questions import Question
+from ownersagree.schemas import Schema
+from ownersagree.systems import System
 from tests.helpers import TEAMS
 
 SCHEMAS = [
@@ -144,3 +148,17 @@ def random_system_texts(chance, schema, extra):
         text = random_handler(chance, schema, f"h{index}")
         texts.append(random_needs(chance, schema, text, chance.choice([0, 0, 1, 2])))
     return texts
+
+
+def with_owners(chance, text):
+    """Returns the text of a schema with an owner line for most of its tables."""
+    schema = Schema.read(text)
+    return "\n".join([text] + [f"owner {table} {chance.choice(schema.positions(table))}" for table in schema.tables()
+                               if chance.random() < 0.8])
+
+
+def random_owned_system(seed, extra=4):
+    """Returns a source of chance and a system over a schema with owners."""
+    chance = random.Random(seed)
+    schema = Schema.read(with_owners(chance, chance.choice(SCHEMAS)))
+    return chance, System(schema, [Handler.read(schema, text) for text in random_system_texts(chance, schema, extra)])

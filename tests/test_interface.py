@@ -3,8 +3,8 @@
 import inspect
 import unittest
 
-from ownersagree import (agreements, bases, cases, errors, handlers, histories, patterns, questions, schemas, surveys,
-                         systems)
+from ownersagree import (agreements, bases, cases, comparing, errors, handlers, histories, judging, patterns, questions,
+                         repairs, schemas, surveys, systems, verdicts)
 from tests.helpers import system, teams
 
 ERRORS = [
@@ -26,6 +26,14 @@ METHODS = {
     bases.Trial: ["keep", "__enter__", "__exit__"],
     surveys.Survey: ["patterns", "depth_of", "able", "derivation", "listing", "__le__"],
     agreements.Agreements: ["of", "pattern_of", "listed", "__contains__", "__len__", "__eq__", "__le__", "__and__"],
+    verdicts.Verdict: ["__bool__", "summary"],
+    verdicts.Holds: [],
+    verdicts.Fails: ["history"],
+    verdicts.Within: [],
+    verdicts.Asked: ["asked"],
+    verdicts.Touched: [],
+    verdicts.Parted: [],
+    repairs.Repair: ["repaired", "lesser"],
 }
 # The functions of each module.
 FUNCTIONS = {
@@ -33,6 +41,9 @@ FUNCTIONS = {
     surveys: ["survey"],
     histories: ["check_derivation", "history", "first_gap"],
     agreements: ["held", "kept"],
+    judging: ["judge_agreement", "judge_question", "judge_handler", "idle_needs", "idle_conditions"],
+    comparing: ["compare", "compare_questions"],
+    repairs: ["edited", "repair"],
 }
 # The arguments of functions that are listed, without the object itself.
 ARGUMENTS = {
@@ -71,6 +82,20 @@ ARGUMENTS = {
     agreements.Agreements.pattern_of: "(table)",
     agreements.held: "(survey)",
     agreements.kept: "(system, *, within=None)",
+    verdicts.Verdict.summary: "()",
+    verdicts.Fails.history: "()",
+    verdicts.Asked.asked: "()",
+    judging.judge_agreement: "(survey, agreement)",
+    judging.judge_question: "(survey, question)",
+    judging.judge_handler: "(survey, name)",
+    judging.idle_needs: "(survey, name)",
+    judging.idle_conditions: "(survey, question)",
+    comparing.compare: "(first, second)",
+    comparing.compare_questions: "(survey, first, second)",
+    repairs.edited: "(system, offers)",
+    repairs.repair: "(system, offers, *, wishes, able=())",
+    repairs.Repair.repaired: "()",
+    repairs.Repair.lesser: "()",
 }
 
 
@@ -78,7 +103,8 @@ class InterfaceTest(unittest.TestCase):
     def test_each_class_is_defined_in_its_module(self):
         for name in ERRORS:
             self.assertEqual(getattr(errors, name).__module__, "ownersagree.errors")
-        modules = [schemas, patterns, handlers, systems, questions, bases, bases, bases, surveys, agreements]
+        modules = [schemas, patterns, handlers, systems, questions, bases, bases, bases, surveys, agreements] + [
+            verdicts] * 7 + [repairs]
         self.assertEqual(len(modules), len(METHODS))
         for owner, module in zip(METHODS, modules):
             with self.subTest(name=owner.__name__):
@@ -121,6 +147,7 @@ class InterfaceTest(unittest.TestCase):
             (questions.Question.read(schema, "question q\nfind n in note"), ["name", "text", "schema"]),
             (base, ["system"]), (base["note", 1], ["table", "number"]),
             (surveys.survey(made), ["system", "rounds"]), (agreements.Agreements(schema, []), ["schema"]),
+            (repairs.repair(made, [], wishes=[]), ["chosen"]),
         ]
         for thing, names in objects:
             for name in names:
