@@ -1,6 +1,6 @@
 """Choices: one line for each chain of a setting."""
 
-from ownersagree.joins import label_of, root_of, unite
+from ownersagree.joins import stay_apart, unite, unite_further
 from ownersagree.lines import size_of
 from ownersagree.marks import is_finer, marks_from
 
@@ -13,32 +13,48 @@ def products(lists):
     return found
 
 
-def is_possible(pairs, apart, choice):
-    """Tells whether the spots of pairs can be joined in a choice of marks while those of apart are not all joined.
-
-    If apart is None, nothing must stay apart.
-    """
-    joined = unite(pairs, choice)
-    if joined is None:
-        return False
-    if apart is None:
-        return True
-    return any([root_of(joined, label_of(left, choice)) != root_of(joined, label_of(right, choice))
-                for left, right in apart])
-
-
 def least_choice(pairs, apart, lists):
-    """Returns a tuple of lines, one of each list, whose marks make a possible choice; None if there is none.
+    """Returns a tuple of lines, one of each list, in which pairs can be joined while those of apart are not all joined.
 
-    Among those that come into question it is one that takes the fewest calls.
+    If apart is None, nothing must stay apart. Among the choices that come into question it is one that takes the fewest
+    calls; it is None if there is none.
     """
     least = None
-    seen = [spot for pair in pairs + (apart or []) for spot in pair]
-    for chosen in products([_telling(lines, piece, seen) for piece, lines in enumerate(lists)]):
+    for chosen, joined in _possible_choices(pairs, apart or [], lists):
         if least is None or size_of(chosen) < size_of(least):
-            if is_possible(pairs, apart, [line.marks for line in chosen]):
+            if apart is None or stay_apart(joined, apart, [line.marks for line in chosen]):
                 least = chosen
     return least
+
+
+def _possible_choices(pairs, apart, lists):
+    """Returns the choices in which pairs can be joined, each with what is joined then.
+
+    Of several lines that make no difference to the pairs and to those of apart, one is taken.
+    """
+    seen = [spot for pair in pairs + apart for spot in pair]
+    start = unite(_ready_pairs(pairs, -1), [])
+    found = [] if start is None else [((), start)]
+    for piece, lines in enumerate(lists):
+        ready = _ready_pairs(pairs, piece)
+        telling = _telling(lines, piece, seen)
+        longer = [((*chosen, line), before) for chosen, before in found for line in telling]
+        united = [(chosen, unite_further(before, ready, [line.marks for line in chosen])) for chosen, before in longer]
+        found = [(chosen, joined) for chosen, joined in united if joined is not None]
+    return found
+
+
+def _ready_pairs(pairs, piece):
+    """Returns the pairs of spots of which one is in a piece and none is in a later one; -1 stands for no piece."""
+    return [pair for pair in pairs if piece == _last_piece(pair)]
+
+
+def _last_piece(pair):
+    last = -1
+    for spot in pair:
+        if not isinstance(spot, str) and spot[0] > last:
+            last = spot[0]
+    return last
 
 
 def _telling(lines, piece, seen):

@@ -1,7 +1,8 @@
 """Doubts: what may go wrong with some rows, and at which depth it first does (points 53, 57, 60 and 63)."""
 
 from ownersagree.agreements import held
-from ownersagree.choices import is_possible, least_choice
+from ownersagree.choices import least_choice
+from ownersagree.joins import stay_apart, unite
 from ownersagree.lines import size_of
 from ownersagree.marks import is_fixed
 
@@ -38,7 +39,9 @@ class Doubt:
     def fails_within(self, agreements):
         """Tells whether it goes wrong for rows of which no more is known than some agreements."""
         choice = [agreements.marks_for(table) for table in self.setting.piece_tables]
-        return None not in choice and is_possible(self.pairs, self.apart, choice)
+        # Where no row can exist, nothing goes wrong either.
+        joined = None if None in choice else unite(self.pairs, choice)
+        return joined is not None and stay_apart(joined, self.apart, choice)
 
 
 def first_failure(survey, doubts):

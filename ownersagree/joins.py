@@ -29,7 +29,12 @@ def unite(pairs, choice):
 
     Returns a dict that leads from labels to those that they are joined with, or None if two constants would be joined.
     """
-    joined = {}
+    return unite_further({}, pairs, choice)
+
+
+def unite_further(before, pairs, choice):
+    """Does the same as unite, where some labels are joined before; their dict stays as it is."""
+    joined = {label: before[label] for label in before}
     for left, right in pairs:
         first = root_of(joined, label_of(left, choice))
         second = root_of(joined, label_of(right, choice))
@@ -40,6 +45,12 @@ def unite(pairs, choice):
         if first != second:
             joined[first] = second
     return joined
+
+
+def stay_apart(joined, pairs, choice):
+    """Tells whether some pair of spots is not joined."""
+    return any([root_of(joined, label_of(left, choice)) != root_of(joined, label_of(right, choice))
+                for left, right in pairs])
 
 
 def with_joined(marks, pairs):

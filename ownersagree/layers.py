@@ -33,8 +33,9 @@ def layers_of(system):
                 raise TooManyPatterns(table)
         if not any([line.depth == len(layers) for lines in layer.values() for line in lines]):
             return layers
-        for table, lines in made.items():
-            known[table].update({marks: True for marks in lines})
+        for table, found in made.items():
+            for marks in found:
+                known[table][marks] = True
         layers.append(layer)
 
 

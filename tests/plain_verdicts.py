@@ -149,7 +149,8 @@ class PlainHandler(PlainSteps):
         table = way[2]
         if kind == "row":
             chains = Chains(self, [], {}, self.params)
-            return [(chains.homes, lambda patterns: chains.groups(patterns, self.needs), chains.read(f"{name}.{owner}"))]
+            return [(chains.homes, lambda patterns: chains.groups(patterns, self.needs),
+                     chains.read(f"{name}.{owner}"))]
         found = []
         for case in self.cases_with(table, kind != "new"):
             joint = (lambda patterns, case=case: self.joint(table, case, [pattern.blocks() for pattern in patterns]))

@@ -32,7 +32,8 @@ class PlainAgreements:
             groups = [[place] for place in self.base.positions(table)]
             groups += [[left, right] for home, left, right in agreements if home == table]
             if parent is not None:
-                groups += [[column, f"{parent}.{source}"] for home, column, source in self.base.follows if home == table]
+                groups += [[column, f"{parent}.{source}"]
+                           for home, column, source in self.base.follows if home == table]
                 if self.groups[parent] is not None:
                     groups += [[member if is_constant(member) else f"{parent}.{member}" for member in group]
                                for group in self.groups[parent]]
@@ -49,7 +50,8 @@ class PlainAgreements:
         for table, groups in self.groups.items():
             places = self.base.positions(table)
             order = places + sorted({member for group in groups or [] for member in group if is_constant(member)})
-            blocks = sorted([sorted(group, key=order.index) for group in groups or []], key=lambda one: order.index(one[0]))
+            blocks = sorted([sorted(group, key=order.index) for group in groups or []],
+                            key=lambda one: order.index(one[0]))
             found += [(table, block[0], member) for block in blocks for member in block[1:]]
         return found
 
@@ -166,7 +168,8 @@ class NoRowTest(SetCase):
 
     def test_only_a_table_below(self):
         found = self.of(("team", "owner", "'a'"), ("task", "project.team.owner", "'b'"))
-        self.assertEqual(found.pattern_of("project"), Pattern(self.schema.positions("project"), [["team.owner", "'a'"]]))
+        self.assertEqual(found.pattern_of("project"),
+                         Pattern(self.schema.positions("project"), [["team.owner", "'a'"]]))
         self.assertIsNone(found.pattern_of("task"))
         self.assertIsNone(found.pattern_of("step"))
         self.assertEqual(found.listed(), [("team", "owner", "'a'"), ("project", "team.owner", "'a'")])
@@ -180,7 +183,8 @@ class NoRowTest(SetCase):
 
 class ListedTest(SetCase):
     def test_the_order(self):
-        found = self.of(("task", "project.owner", "'b'"), ("task", "owner", "project.team.lead"), ("note", "text", "'a'"),
+        found = self.of(("task", "project.owner", "'b'"), ("task", "owner", "project.team.lead"),
+                        ("note", "text", "'a'"),
                         ("team", "lead", "owner"), ("task", "state", "project.owner"))
         self.assertEqual(found.listed(), [
             ("team", "owner", "lead"), ("project", "team.owner", "team.lead"),

@@ -82,7 +82,8 @@ class CompareTest(AgreeTestCase):
 
     def test_the_first_text(self):
         schema = "root a x y"
-        one = survey(system_of(schema, "handler h\nnew n in a with 'b' 'c'\nnew m in a with 'b' 'a'\nnew k in a with 'a' 'b'"))
+        one = survey(system_of(schema,
+                               "handler h\nnew n in a with 'b' 'c'\nnew m in a with 'b' 'a'\nnew k in a with 'a' 'b'"))
         two = survey(system_of(schema, "handler h\nnew k in a with 'a' 'b'"))
         self.assertEqual(self.check(one, two), (0, "a", "x = 'b'; y = 'a'"))
         self.assertEqual(self.check(two, one), (1, "a", "x = 'b'; y = 'a'"))

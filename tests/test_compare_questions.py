@@ -87,7 +87,8 @@ class QuestionsTest(QuestionsCase):
         frame = ["row p in project", "find t in task below p"]
         self.both(found, frame, ["p.owner = me"], ["t.project.owner = me"], (None, None))
         self.both(found, frame, ["p.owner = me"], ["t.owner = me"], ((0, 3), (0, 3)))
-        self.both(found, ["row p in project", "find t in task"], ["p.owner = me"], ["t.project.owner = me"], ((0, 2), (0, 2)))
+        self.both(found, ["row p in project", "find t in task"], ["p.owner = me"], ["t.project.owner = me"],
+                  ((0, 2), (0, 2)))
 
     def test_constants_of_their_own(self):
         found = survey(projects(BAD_GIVE))
@@ -137,7 +138,8 @@ class QuestionsTest(QuestionsCase):
         other = Schema.read(PROJECTS + "\nowner project owner")
         there = Question.read(other, "question q\nfind t in task")
         apart = Question.read(other, "question q\nfind p in project")
-        for first, second in ((here, there), (there, here), (there, there), (here, apart), (apart, here), (there, apart)):
+        for first, second in ((here, there), (there, here), (there, there), (here, apart), (apart, here),
+                              (there, apart)):
             self.check_error(OtherSchema(), compare_questions, found, first, second)
         same = Question.read(Schema.read(PROJECTS), "question q\nfind t in task")
         self.assertIsNone(self.check(found, here, same))

@@ -92,7 +92,8 @@ class CheckTest(AgreeTestCase):
 
     def test_each_line(self):
         self.assertEqual(self.told(projects(BAD_GIVE), [START_LINE, PLAN_LINE, GIVE_LINE]), [
-            ("project", "owner", 1, 1), ("task", "owner = project.owner", 2, 2), ("task", "owner; project.owner", 3, 3)])
+            ("project", "owner", 1, 1), ("task", "owner = project.owner", 2, 2),
+            ("task", "owner; project.owner", 3, 3)])
 
     def test_patterns_are_patterns(self):
         told = check_derivation(projects(), [START_LINE])
@@ -121,7 +122,8 @@ class CheckTest(AgreeTestCase):
         wanted = self.told(system, lines)
         self.assertEqual(self.told(system, in_lists(lines)), wanted)
         self.assertEqual(self.told(system, [list(line) for line in lines]), wanted)
-        self.assertEqual(self.told(system, [(name, table, case, list(sources)) for name, table, case, sources in lines]),
+        self.assertEqual(self.told(system,
+                                   [(name, table, case, list(sources)) for name, table, case, sources in lines]),
                          wanted)
         self.assertEqual(self.told(system, [(name, table, in_lists(case), sources)
                                             for name, table, case, sources in lines]), wanted)
@@ -189,7 +191,8 @@ class WrongTest(AgreeTestCase):
         self.check(0, ())
 
     def test_lines_of_any_kind(self):
-        for line in (None, 0, True, "give", "", b"give", {}, {1: 2, 3: 4, 5: 6, 7: 8}, object(), (), [], 1.5, {1, 2, 3, 4},
+        for line in (None, 0, True, "give", "", b"give", {}, {1: 2, 3: 4, 5: 6, 7: 8}, object(), (), [], 1.5,
+                     {1, 2, 3, 4},
                      GIVE_LINE[:3], GIVE_LINE + ((),), [GIVE_LINE], (START_LINE, PLAN_LINE, GIVE_LINE)):
             self.check_line(line)
 
@@ -225,7 +228,8 @@ class WrongTest(AgreeTestCase):
             self.check(1, [START_LINE, START_LINE[:3] + (sources,)])
 
     def test_members_of_sources_of_any_kind(self):
-        for source in (None, "1", "", b"1", 1.0, True, False, (1,), [1], {}, object(), -1, -2, 2, 3, 99, 10 ** 30, -10 ** 30):
+        for source in (None, "1", "", b"1", 1.0, True, False, (1,), [1], {}, object(), -1, -2, 2, 3, 99, 10 ** 30,
+                       -10 ** 30):
             self.check_line(GIVE_LINE[:3] + ((source,),))
             self.check_line(GIVE_LINE[:3] + ([source],))
 

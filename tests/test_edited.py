@@ -42,7 +42,8 @@ class EditedTest(AgreeTestCase):
 
     def test_a_need_line_where_there_is_none(self):
         system = system_of(PROJECTS, "handler only", "handler rows\nrow p in project\nset p.owner = me",
-                           "handler values\nvalue u\nnew n in project with u", "handler mixed\nvalue u\nrow p in project\n"
+                           "handler values\nvalue u\nnew n in project with u",
+                           "handler mixed\nvalue u\nrow p in project\n"
                            "value v\ntake p", "handler last\nvalue u\nrow p in project")
         offers = [("line", name, "need me = 'a'") for name in system.names()]
         _, texts = self.texts(offers, system)
@@ -58,9 +59,11 @@ class EditedTest(AgreeTestCase):
         self.assertEqual(texts["give"], f"{BAD_GIVE}\neach task below p sets owner = u\nset p.owner = me")
         self.assertEqual(texts["plan"], f"{PLAN}\nset p.owner = 'a'")
         system = system_of(PROJECTS, "handler h\nrow p in project", "handler k\nrow p in project\nneed p.owner = me")
-        _, texts = self.texts([("line", "h", "set p.owner = me"), ("line", "k", "each task below p sets owner = me")], system)
+        _, texts = self.texts([("line", "h", "set p.owner = me"), ("line", "k", "each task below p sets owner = me")],
+                              system)
         self.assertEqual(texts, {"h": "handler h\nrow p in project\nset p.owner = me",
-                                 "k": "handler k\nrow p in project\nneed p.owner = me\neach task below p sets owner = me"})
+                                 "k": "handler k\nrow p in project\nneed p.owner = me\n"
+                                      "each task below p sets owner = me"})
 
     def test_a_follow_line_at_the_end_of_the_schema(self):
         schema, texts = self.texts([FOLLOW])
@@ -70,11 +73,13 @@ class EditedTest(AgreeTestCase):
 
     def test_several_in_turn(self):
         schema, texts = self.texts([
-            ("line", "give", "need u = 'a'"), ("line", "give", "set p.owner = 'b'"), FOLLOW, ("line", "give", "need me = u"),
+            ("line", "give", "need u = 'a'"), ("line", "give", "set p.owner = 'b'"), FOLLOW,
+            ("line", "give", "need me = u"),
             EACH, ("line", "start", "need me = 'a'")])
         self.assertEqual(schema, f"{PROJECTS}\nfollow task owner owner")
         self.assertEqual(texts["give"], "handler give\nrow p in project\nvalue u\nneed p.owner = me\nneed u = 'a'\n"
-                                        "need me = u\nset p.owner = u\nset p.owner = 'b'\neach task below p sets owner = u")
+                                        "need me = u\nset p.owner = u\nset p.owner = 'b'\n"
+                                        "each task below p sets owner = u")
         self.assertEqual(texts["start"], "handler start\nneed me = 'a'\nnew p in project with me")
         self.assertEqual(texts["plan"], PLAN)
 
@@ -85,12 +90,14 @@ class EditedTest(AgreeTestCase):
                                ("line", "h", "set p.owner = 'b'"),
                                ("line", "h", "each task below p sets owner = me")], system)
         self.assertEqual(texts["h"], "handler h\nrow p in project\nneed p.owner = me\nneed me = 'a'\n"
-                                     "new n in task under p with me\nset p.owner = 'b'\neach task below p sets owner = me")
+                                     "new n in task under p with me\nset p.owner = 'b'\n"
+                                     "each task below p sets owner = me")
 
     def test_a_line_below_a_new_row(self):
         system = system_of("root a x\ntable b a x", "handler h\nrow q in b\nnew n in a with me\nmove q under n")
         _, texts = self.texts([("line", "h", "each b below n sets x = me")], system)
-        self.assertEqual(texts["h"], "handler h\nrow q in b\nnew n in a with me\nmove q under n\neach b below n sets x = me")
+        self.assertEqual(texts["h"],
+                         "handler h\nrow q in b\nnew n in a with me\nmove q under n\neach b below n sets x = me")
 
     def test_earlier_handlers_are_read_over_the_new_schema(self):
         found = edited(self.system, [("line", "give", "need u = u"), FOLLOW])
@@ -119,7 +126,8 @@ class BadOfferTest(AgreeTestCase):
         self.check(list(FOLLOW))
 
     def test_offers_of_any_kind(self):
-        for offer in (None, 0, True, "", "line", "abc", "abcd", b"abc", {}, {"line": 1}, {"line", "give", "need u = me"},
+        for offer in (None, 0, True, "", "line", "abc", "abcd", b"abc", {}, {"line": 1},
+                      {"line", "give", "need u = me"},
                       object(), 1.5, (), ((),), ("line",), ("follow",)):
             self.check(offer)
 

@@ -79,7 +79,8 @@ class HistoryTest(HistoryCase):
 
     def test_guards_join_what_was_apart(self):
         system = system_of("root t x y", "handler make\nvalue u\nvalue v\nnew n in t with u v",
-                           "handler same\nrow r in t\nrow s in t\nvalue u\nneed r.x = r.y\nneed s.y = 'a'\nneed u = s.x\n"
+                           "handler same\nrow r in t\nrow s in t\nvalue u\nneed r.x = r.y\nneed s.y = 'a'\n"
+                           "need u = s.x\n"
                            "need me = r.x\nset r.x = u\nset r.y = s.y")
         calls = self.check(system, [MAKE, ("same", "t", (("old", ("r",)),), (0, 0))])
         self.assertEqual(calls[0][3][0], calls[0][3][1])

@@ -125,7 +125,8 @@ class AgreementTest(AgreementCase):
         for _ in range(20):
             columns = ["w", "x", "y", "z"]
             terms = " ".join(chance.choice(["me", "u", "v", "'a'"]) for _ in columns)
-            found = survey(system_of("root t " + " ".join(columns), f"handler h\nvalue u\nvalue v\nnew n in t with {terms}"))
+            found = survey(system_of("root t " + " ".join(columns),
+                                     f"handler h\nvalue u\nvalue v\nnew n in t with {terms}"))
             for agreement in all_agreements(found):
                 verdict = self.check(found, agreement)
                 if verdict is not None:

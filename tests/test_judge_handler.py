@@ -82,8 +82,10 @@ class WayTest(HandlerCase):
 
     SCHEMA = ("root g who\ntable r g who\ntable i r who\nroot free x\ntable low free x\nowner g who\nowner r who\n"
               "owner i who\nowner low x")
-    MAKERS = ["handler mg\nvalue u\nnew n in g with me", "handler mr\nrow p in g\nneed p.who = me\nnew n in r under p with me",
-              "handler mi\nrow p in r\nneed p.who = me\nnew n in i under p with me", "handler mf\nnew n in free with me",
+    MAKERS = ["handler mg\nvalue u\nnew n in g with me",
+              "handler mr\nrow p in g\nneed p.who = me\nnew n in r under p with me",
+              "handler mi\nrow p in r\nneed p.who = me\nnew n in i under p with me",
+              "handler mf\nnew n in free with me",
               "handler ml\nrow p in free\nnew n in low under p with me"]
 
     def found(self, *texts):
@@ -98,7 +100,8 @@ class WayTest(HandlerCase):
         self.check_within(found, "ml", "agreements")
 
     def test_set(self):
-        found = self.found("handler h\nrow p in g\nset p.who = me", "handler k\nrow p in g\nneed p.who = me\nset p.who = 'a'",
+        found = self.found("handler h\nrow p in g\nset p.who = me",
+                           "handler k\nrow p in g\nneed p.who = me\nset p.who = 'a'",
                            "handler l\nrow p in g\nrow q in g\nneed p.who = me\nset p.who = me\nset q.who = me",
                            "handler free\nrow f in free\nset f.x = me")
         self.check_touched(found, "h", (0, "set", "g"), 1)
@@ -122,7 +125,8 @@ class WayTest(HandlerCase):
         found = self.found("handler h\nrow p in g\nvalue u\nnew n in r under p with u",
                            "handler k\nrow p in g\nvalue u\nneed p.who = me\nnew n in r under p with u",
                            "handler l\nvalue u\nnew n in g with me\nnew m in r under n with u",
-                           "handler o\nvalue u\nneed u = 'a'\nneed me = u\nnew n in g with u\nnew m in r under n with u",
+                           "handler o\nvalue u\nneed u = 'a'\nneed me = u\nnew n in g with u\n"
+                           "new m in r under n with u",
                            "handler f\nrow p in free\nvalue u\nnew m in low under p with u")
         self.check_touched(found, "h", (0, "under", "g"), 1)
         self.check_touched(found, "k", (0, "new", "r"), 1)
@@ -157,9 +161,11 @@ class WayTest(HandlerCase):
         self.check_touched(found, "k", (0, "new", "r"), 1)
 
     def test_each(self):
-        found = self.found("handler h\nrow p in g\neach r below p sets who = me", "handler o\nrow p in r\nset p.who = 'x'",
+        found = self.found("handler h\nrow p in g\neach r below p sets who = me",
+                           "handler o\nrow p in r\nset p.who = 'x'",
                            "handler k\nrow p in g\nneed p.who = me\neach i below p sets who = me",
-                           "handler l\nrow p in r\nrow q in g\nneed q.who = me\nmove p under q\neach r below q sets who = me",
+                           "handler l\nrow p in r\nrow q in g\nneed q.who = me\nmove p under q\n"
+                           "each r below q sets who = me",
                            "handler f\nrow p in free\neach low below p sets x = me")
         self.check_touched(found, "h", (0, "each", "r"), 2)
         self.check_touched(found, "k", (0, "each", "i"), 4)
@@ -168,10 +174,12 @@ class WayTest(HandlerCase):
 
     def test_each_of_rows_that_were_moved_below_by_the_call(self):
         schema = "root a x\ntable b a x\nowner b x"
-        texts = ["handler ma\nnew n in a with me", "handler mb\nrow p in a\nvalue u\nneed p.x = me\nnew n in b under p with u"]
+        texts = ["handler ma\nnew n in a with me",
+                 "handler mb\nrow p in a\nvalue u\nneed p.x = me\nnew n in b under p with u"]
         found = survey(system_of(schema, *texts, "handler h\nrow q in b\nneed q.x = me\nnew n in a with me\n"
                                  "move q under n\neach b below n sets x = 'k'",
-                                 "handler k\nrow q in b\nrow s in b\nneed q.x = me\nnew n in a with me\nmove s under n\n"
+                                 "handler k\nrow q in b\nrow s in b\nneed q.x = me\nnew n in a with me\n"
+                                 "move s under n\n"
                                  "each b below n sets x = 'k'"))
         self.check_within(found, "h", "agreements")
         self.check_touched(found, "k", (1, "moved", "b"), 2)
@@ -182,7 +190,8 @@ class WayTest(HandlerCase):
         self.check_within(found, "h", "agreements")
 
     def test_each_of_rows_that_are_taken_afterwards(self):
-        found = self.found("handler h\nrow p in g\nneed p.who = me\nneed me = 'a'\neach r below p sets who = me\ntake p",
+        found = self.found("handler h\nrow p in g\nneed p.who = me\nneed me = 'a'\n"
+                           "each r below p sets who = me\ntake p",
                            "handler o\nrow p in r\nset p.who = 'b'")
         self.check_touched(found, "h", (0, "each", "r"), 3)
 
@@ -206,15 +215,18 @@ class WayTest(HandlerCase):
         self.check_touched(found, "h", (0, "taken", "c"), 2)
 
     def test_rows_that_are_moved_below_a_row_that_is_taken(self):
-        found = self.found("handler h\nrow p in g\nrow q in r\nneed p.who = me\nneed q.who = me\nmove q under p\ntake p",
+        found = self.found("handler h\nrow p in g\nrow q in r\nneed p.who = me\nneed q.who = me\n"
+                           "move q under p\ntake p",
                            "handler o\nrow p in i\nset p.who = 'x'")
         self.check_touched(found, "h", (1, "taken", "i"), 4)
 
     def test_the_first_way(self):
-        found = self.found("handler h\nrow p in g\nrow q in r\nvalue u\nneed q.g.who = me\nneed q.who = me\nset q.who = u\n"
+        found = self.found("handler h\nrow p in g\nrow q in r\nvalue u\nneed q.g.who = me\nneed q.who = me\n"
+                           "set q.who = u\n"
                            "move q under p\nset p.who = u\ntake p")
         self.check_touched(found, "h", (1, "under", "g"), 2)
-        found = self.found("handler h\nrow p in g\nvalue u\nneed p.who = me\nset p.who = u\nset p.who = u\nnew n in g with u\n"
+        found = self.found("handler h\nrow p in g\nvalue u\nneed p.who = me\nset p.who = u\nset p.who = u\n"
+                           "new n in g with u\n"
                            "new k in g with 'b'")
         self.check_touched(found, "h", (2, "new", "g"), 1)
 
@@ -251,7 +263,8 @@ class WayTest(HandlerCase):
 
     def test_free_values_are_no_constants(self):
         for number in range(6):
-            found = self.found(f"handler h\nrow p in g\nset p.who = 'u{number}'", "handler k\nrow p in g\nset p.who = me")
+            found = self.found(f"handler h\nrow p in g\nset p.who = 'u{number}'",
+                               "handler k\nrow p in g\nset p.who = me")
             self.check_touched(found, "h", (0, "set", "g"), 1)
             self.check_touched(found, "k", (0, "set", "g"), 1)
 

@@ -128,10 +128,12 @@ class QuestionTest(QuestionCase):
     def test_the_least_depth_of_all_rows(self):
         # The found row has depth 1, and an argument needs depth 3.
         found = survey(system_of("root t x y\nroot s k\nowner t x", "handler h\nvalue u\nnew n in t with me u",
-                                 "handler a\nnew n in s with 'a'", "handler b\nrow r in s\nneed r.k = 'a'\nset r.k = 'b'",
+                                 "handler a\nnew n in s with 'a'",
+                                 "handler b\nrow r in s\nneed r.k = 'a'\nset r.k = 'b'",
                                  "handler c\nrow r in s\nneed r.k = 'b'\nset r.k = 'c'"))
         for constant, depth in (("'a'", 1), ("'b'", 2), ("'c'", 3)):
-            verdict = self.check_asked(found, question(found, "row s in s", "find n in t", f"where s.k = {constant}"), depth)
+            verdict = self.check_asked(found, question(found, "row s in s", "find n in t", f"where s.k = {constant}"),
+                                       depth)
             self.assertEqual(verdict.size, 1 + depth)
         self.check_within(found, question(found, "row s in s", "find n in t", "where s.k = 'd'"), "nothing")
 

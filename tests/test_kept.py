@@ -82,7 +82,8 @@ class KeptTest(AgreeTestCase):
 
     def test_an_agreement_that_holds_without_being_kept(self):
         system = boxes()
-        self.assertEqual((("link", "x", "y") in held(survey(system)), ("link", "x", "y") in kept(system)), (True, False))
+        self.assertEqual((("link", "x", "y") in held(survey(system)), ("link", "x", "y") in kept(system)),
+                         (True, False))
 
     def test_tables_that_no_handler_fills(self):
         found = kept(system_of(PROJECTS, START))
@@ -303,7 +304,8 @@ class WatchedTest(AgreeTestCase):
     def test_patterns_of_a_system_without_handlers(self):
         system = System(Schema.read(PROJECTS), [])
         self.assertEqual(kept(system), held(survey(system)))
-        self.assertEqual(kept(system, within=Agreements.of(system.schema)).pattern_of("project"), Pattern(["owner"], []))
+        self.assertEqual(kept(system, within=Agreements.of(system.schema)).pattern_of("project"),
+                         Pattern(["owner"], []))
 
 
 if __name__ == "__main__":

@@ -223,7 +223,8 @@ class ErrorTest(AgreeTestCase):
         more = [("line", "tstart", "need 'x' = 'y'")] + offers
         self.assertEqual(repair(system, more, wishes=[wish]).chosen, (0,))
         self.check_error(TooManyPatterns("t"), repair, system, list(reversed(more)), wishes=[wish])
-        self.check_error(TooManyPatterns("t"), repair, system_of("root t c0 c1", *grid_texts([7, 7], "t")), [], wishes=[])
+        self.check_error(TooManyPatterns("t"), repair, system_of("root t c0 c1", *grid_texts([7, 7], "t")), [],
+                         wishes=[])
 
 
 class RandomTest(RepairCase):

@@ -179,7 +179,8 @@ class FollowTest(StepCase):
 
     def test_a_new_row_follows(self):
         one = self.one("row s in a", "new r in b under s with 'p' 'q'", "new t in c under r with me me")
-        self.check(one, "c", (new("t"), new("r"), old("s")), [self.pattern("a")], "x = b.x = b.a.x; y = b.y = 'q'; b.a.y")
+        self.check(one, "c", (new("t"), new("r"), old("s")), [self.pattern("a")],
+                   "x = b.x = b.a.x; y = b.y = 'q'; b.a.y")
 
 
 class ErrorTest(AgreeTestCase):

@@ -132,7 +132,8 @@ class TooManyTest(AgreeTestCase):
 
     def test_41(self):
         more = "handler more\nnew n in t with 'k0' 'k0' 'z'"
-        texts_of_it = [text.replace("row r in t", "row r in t\nneed r.c2 = 'k0'") for text in grid_texts([4, 10, 1], "t")]
+        texts_of_it = [text.replace("row r in t", "row r in t\nneed r.c2 = 'k0'")
+                       for text in grid_texts([4, 10, 1], "t")]
         self.assertEqual(len(survey(system_of("root t c0 c1 c2", *texts_of_it)).patterns("t")), 40)
         self.check_error(TooManyPatterns("t"), survey, system_of("root t c0 c1 c2", *texts_of_it, more))
 
@@ -200,7 +201,8 @@ class TimeTest(AgreeTestCase):
         schema = "\n".join(["root a w x y z", "table b a w x y z", "table c b w x y z", "table d c w x y z"])
         below = {"b": "a", "c": "b", "d": "c"}
         makers = ["handler ma\nvalue u\nnew n in a with me me u 'p'"] + [
-            f"handler m{low}\nrow r in {high}\nnew n in {low} under r with r.w r.x me r.z" for low, high in below.items()]
+            f"handler m{low}\nrow r in {high}\nnew n in {low} under r with r.w r.x me r.z"
+            for low, high in below.items()]
         more = [f"handler s{table}{column}\nrow r in {table}\nset r.{column} = '{column}'"
                 for table, column in (("a", "x"), ("b", "y"), ("c", "z"))]
         mixed = "handler mixed\nrow p in d\nrow q in d\nrow r in d\nneed p.w = q.w\nneed q.x = r.x\nset p.x = r.x"
@@ -283,7 +285,8 @@ class AbleTest(AgreeTestCase):
         texts_of_it = [f"handler {name}\nrow t in team\nrow s in team\nvalue u\n" + "\n".join(needs)
                        for name, needs in (("never", ["need t.x = 'c'"]), ("a", ["need t.x = 'a'", "need s.x = 'b'"]),
                                            ("same", ["need t.x = s.x", "need t.x = 'a'", "need u = s.x"]),
-                                           ("not", ["need t.x = s.x", "need t.x = 'a'", "need u = s.x", "need 'b' = u"]))]
+                                           ("not",
+                                            ["need t.x = s.x", "need t.x = 'a'", "need u = s.x", "need 'b' = u"]))]
         self.check(system_of("root team x", "handler ma\nnew t in team with 'a'", "handler mb\nnew t in team with 'b'",
                              *texts_of_it), never=False, a=True, same=True, **{"not": False})
 

@@ -201,8 +201,10 @@ class WithoutFollowing:
             if words[0] == "new" and words[3] == self.table:
                 at = 7 if words[4] == "under" else 5
                 del words[at + self.schema.columns(self.table).index(self.column)]
-            if words[0] == "set" and (rows[words[1].split(".")[0]], words[1].split(".")[1]) == (self.table, self.column):
-                continue
+            if words[0] == "set":
+                name, column = words[1].split(".")
+                if (rows[name], column) == (self.table, self.column):
+                    continue
             if words[0] == "each" and (words[1], words[5]) == (self.table, self.column):
                 continue
             target = words[1] if words[0] == "set" else ""
