@@ -62,7 +62,7 @@ def is_covered(marks, others):
 
 def shared(first, second):
     """Returns the marks that join exactly what both join."""
-    return marks_from([one if is_fixed(one) and one == other else (one, other) for one, other in zip(first, second)])
+    return marks_from([one if one == other else (one, other) for one, other in zip(first, second)])
 
 
 def count_free(marks):

@@ -173,6 +173,17 @@ class PiecesTest(AgreeTestCase):
         two = handler("handler h", "row s in step", "row p in project", "row x in team")
         self.check(two, "team", (old("x"),), ["team", "step", "project"])
 
+    def test_names_that_are_parts_of_other_names(self):
+        # The letters of the name of a new row are names of row parameters.
+        one = handler("handler h", "row p in project", "row q in project", "row t in team",
+                      "new pqt in task under p with me me")
+        self.check(one, "task", (new("pqt"), old("p"), OLD), ["project", "project", "team"])
+        self.check(one, "task", (new("pqt"), old("p", "q"), old("t")), ["project"])
+        two = handler("handler h", "row n in note", "row e in team", "row w in project", "new new in note with me")
+        self.check(two, "note", (new("new"),), ["note", "team", "project"])
+        three = handler("handler h", "row old in project", "new o in team with me me", "move old under o")
+        self.check(three, "project", (old("old"), new("o")), ["project"])
+
     def test_a_new_list(self):
         one = handler("handler h", "row p in project")
         pieces(one, "project", (old("p"), OLD)).append("x")

@@ -261,6 +261,20 @@ class WayTest(HandlerCase):
         self.check_within(found, "h", "patterns")
         self.check_within(found, "k", "patterns")
 
+    def test_rests_on_agreements_where_a_table_can_have_no_rows(self):
+        found = survey(system_of(self.SCHEMA, self.MAKERS[0], "handler h\nrow p in g\nneed p.who = me\ntake p"))
+        self.check_within(found, "h", "agreements")
+        found = survey(system_of(self.SCHEMA, self.MAKERS[0], "handler h\nrow p in g\nneed p.who = me\nset p.who = me\n"
+                                 "each i below p sets who = me"))
+        self.check_within(found, "h", "agreements")
+
+    def test_rests_on_agreements_where_two_arguments_can_not_be_one_row(self):
+        guards = "row p in g\nrow q in g\nneed p.who = me\nneed me = 'a'\nneed q.who = 'b'"
+        found = self.found(f"handler h\n{guards}\ntake p",
+                           f"handler k\n{guards}\nnew n in r under p with me\neach r below q sets who = 'b'")
+        self.check_within(found, "h", "agreements")
+        self.check_touched(found, "k", (1, "each", "r"), 2)
+
     def test_free_values_are_no_constants(self):
         for number in range(6):
             found = self.found(f"handler h\nrow p in g\nset p.who = 'u{number}'",
