@@ -11,6 +11,13 @@ def _constants_of(handler):
     return [term for term in terms if is_constant(term)]
 
 
+def _constants_in(handlers):
+    """Returns the constants of handlers, each once, in ascending order."""
+    # A dict, not a set: beside classes with an order, only a list of plain texts is sorted.
+    found = {term: True for handler in handlers for term in _constants_of(handler)}
+    return sorted([str(term) for term in found])
+
+
 class System:
     """A schema and a list of handlers over it."""
 
@@ -27,7 +34,7 @@ class System:
             if handler.name in self._handlers:
                 raise DuplicateName(0, handler.name)
             self._handlers[handler.name] = handler
-        self._constants = sorted(set([str(term) for handler in handlers for term in _constants_of(handler)]))
+        self._constants = _constants_in(handlers)
 
     @staticmethod
     def of(schema, *handlers):

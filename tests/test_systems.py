@@ -1,12 +1,13 @@
 """Points 2 and 21: systems."""
 
+import itertools
 import unittest
 
 from ownersagree.errors import DuplicateName, OtherSchema, TooMany, UnknownName
 from ownersagree.handlers import Handler
 from ownersagree.schemas import Schema
 from ownersagree.systems import System
-from tests.helpers import TEAMS, AgreeTestCase, handler, teams
+from tests.helpers import TEAMS, AgreeTestCase, handler, system, teams
 
 
 def many(count, schema):
@@ -139,6 +140,44 @@ class ConstantsTest(AgreeTestCase):
                          ["'0'", "'10'", "'9'", "'a'", "'ab'", "'abc'", "'b'"])
         self.assertEqual(System.of(schema, second, first).constants(), System.of(schema, first, second).constants())
         self.assertEqual(System.of(schema, first).constants(), ["'10'", "'a'", "'ab'", "'b'"])
+
+    def test_shared_by_guards_and_by_what_is_written(self):
+        found = system(
+            ("handler a", "row t in team", "need 'z' = t.owner", "need 'm' = 'z'", "new n in note with 'z'"),
+            ("handler b", "row t in team", "need t.lead = 'c'", "new p in project under t with 'm'",
+             "new q in project under t with 'm'", "set t.owner = 'c'"),
+            ("handler c", "row t in team", "need me = 'q'", "each task below t sets state = 'z'",
+             "each task below t sets owner = 'b'"),
+            ("handler d", "row t in team", "set t.owner = 'q'", "set t.lead = 'a'", "new n in note with 'a'"))
+        self.assertEqual(found.constants(), ["'a'", "'b'", "'c'", "'m'", "'q'", "'z'"])
+
+    def test_many_are_ascending_and_told_once(self):
+        # So many that they are not in order by chance alone.
+        words = [f"'{letter}{number}'" for letter in "zyxwvuts" for number in (3, 20, 1)]
+        parts = [words[:8], words[8:16], words[16:]]
+        guards = [(f"handler g{at}", *[f"need {word} = me" for word in part]) for at, part in enumerate(parts)]
+        writers = [(f"handler w{at}", *[f"new n{index} in team with {word} {word}" for index, word in enumerate(part)])
+                   for at, part in enumerate(parts)]
+        for handlers in (guards, writers, guards + writers, writers[::-1] + guards):
+            self.assertEqual(system(*handlers).constants(), sorted(words))
+
+    def test_handlers_in_every_order(self):
+        lines = [("handler a", "need 'd' = 'b'", "new n in note with 'e'"),
+                 ("handler b", "need me = 'e'", "new n in note with 'a'"),
+                 ("handler c", "need 'c' = 'a'", "new n in team with 'd' 'b'"),
+                 ("handler d", "new n in note with me")]
+        for handlers in itertools.permutations(lines):
+            found = system(*handlers)
+            self.assertEqual(found.names(), [texts[0].split(" ")[1] for texts in handlers])
+            self.assertEqual(found.constants(), ["'a'", "'b'", "'c'", "'d'", "'e'"])
+
+    def test_no_constants(self):
+        bare = ("handler a",)
+        guard = ("handler b", "value u", "need u = me")
+        writer = ("handler c", "row n in note", "value u", "need n.text = u", "new m in note with u",
+                  "set n.text = me", "take n")
+        for handlers in ([], [bare], [guard], [writer], [bare, guard, writer], [writer, guard, bare]):
+            self.assertEqual(system(*handlers).constants(), [])
 
     def test_names_are_no_constants(self):
         schema = teams()
